@@ -1,8 +1,9 @@
 // Package qp is layer 2, quoted-printable: see shared/doc/02-qp.md.
 package qp
 
+import "muslin/ascii"
+
 const (
-	digits   = "0123456789ABCDEF"
 	maxLine  = 75
 	softEnd  = "=\n"
 	blankHex = "=20"
@@ -29,7 +30,7 @@ func written(c byte, last bool) string {
 	if plain(c) && !(c == ' ' && last) {
 		return string([]byte{c})
 	}
-	return string([]byte{'=', digits[c>>4], digits[c&15]})
+	return "=" + ascii.Hex(c)
 }
 
 // plain tells whether a byte may stand for itself.
@@ -72,31 +73,14 @@ func Decode(s string) string {
 
 // equals reads the `=` that s begins with: the bytes that it stands for, and how many bytes of s belong to it.
 func equals(s string) (string, int) {
-	if len(s) > 2 {
-		high, ok := digit(s[1])
-		low, also := digit(s[2])
-		if ok && also {
-			return string([]byte{high<<4 | low}), 3
-		}
+	if c, ok := ascii.FromHex(s[1:]); ok {
+		return string([]byte{c}), 3
 	}
 	behind := 1 + white(s[1:])
 	if end := lineEnd(s[behind:]); end > 0 {
 		return "", behind + end
 	}
 	return "=", 1
-}
-
-// digit is the number of a hexadecimal digit of either size; false: it is none.
-func digit(c byte) (byte, bool) {
-	if 'a' <= c && c <= 'f' {
-		c -= 'a' - 'A'
-	}
-	for i, r := range digits {
-		if r == rune(c) {
-			return byte(i), true
-		}
-	}
-	return 0, false
 }
 
 // white is how many blanks and tabs s begins with.

@@ -1,0 +1,46 @@
+// Package ascii has what several layers ask of single bytes. It is no layer itself.
+package ascii
+
+const digits = "0123456789ABCDEF"
+
+// Lower puts a to z in the place of A to Z; unlike the library's own it touches no other sign, so that no foreign letter becomes one of a name.
+func Lower(s string) string {
+	out := []byte(s)
+	for i, c := range out {
+		if 'A' <= c && c <= 'Z' {
+			out[i] = c + ('a' - 'A')
+		}
+	}
+	return string(out)
+}
+
+// Hex is a byte as two hexadecimal digits.
+func Hex(c byte) string {
+	return string([]byte{digits[c>>4], digits[c&15]})
+}
+
+// FromHex is the byte of the two hexadecimal digits, of either size, that s begins with; false: it begins with none.
+func FromHex(s string) (byte, bool) {
+	if len(s) < 2 {
+		return 0, false
+	}
+	high, ok := digit(s[0])
+	low, also := digit(s[1])
+	if !ok || !also {
+		return 0, false
+	}
+	return high<<4 | low, true
+}
+
+// digit is the number of a hexadecimal digit of either size; false: it is none.
+func digit(c byte) (byte, bool) {
+	if 'a' <= c && c <= 'f' {
+		c -= 'a' - 'A'
+	}
+	for i, r := range digits {
+		if r == rune(c) {
+			return byte(i), true
+		}
+	}
+	return 0, false
+}

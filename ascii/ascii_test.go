@@ -1,0 +1,60 @@
+package ascii_test
+
+import (
+	"strconv"
+	"strings"
+	"testing"
+
+	"muslin/ascii"
+)
+
+func TestLower(t *testing.T) {
+	for c := range 256 {
+		b := string([]byte{byte(c)})
+		want := b
+		if i := strings.Index("ABCDEFGHIJKLMNOPQRSTUVWXYZ", b); i >= 0 {
+			want = "abcdefghijklmnopqrstuvwxyz"[i : i+1]
+		}
+		if u := ascii.Lower("A" + b + "z"); u != "a"+want+"z" {
+			t.Errorf("byte %d: %q", c, u)
+		}
+	}
+	for _, s := range []string{"", "\u00c9\u0130\u212a\u017f", "\xff\xc3"} {
+		if u := ascii.Lower(s); u != s {
+			t.Errorf("%q: %q", s, u)
+		}
+	}
+}
+
+func TestHex(t *testing.T) {
+	const small = "0123456789abcdef"
+	for c := range 256 {
+		lower := small[c/16:c/16+1] + small[c%16:c%16+1]
+		upper := strings.ToUpper(lower)
+		if u := ascii.Hex(byte(c)); u != upper {
+			t.Errorf("byte %d: %q", c, u)
+		}
+		for _, s := range []string{lower, upper, upper + "0", lower + "x"} {
+			if u, ok := ascii.FromHex(s); u != byte(c) || !ok {
+				t.Errorf("%q: %d, %v", s, u, ok)
+			}
+		}
+	}
+}
+
+func TestFromHexOfWhatIsNone(t *testing.T) {
+	for high := range 256 {
+		for low := range 256 {
+			s := string([]byte{byte(high), byte(low)})
+			want, err := strconv.ParseUint(s, 16, 8)
+			if u, ok := ascii.FromHex(s); ok != (err == nil) || ok && uint64(u) != want || !ok && u != 0 {
+				t.Errorf("%q: %d, %v", s, u, ok)
+			}
+		}
+	}
+	for _, s := range []string{"", "4", "f", "\xc3", " 41", "4 1", "x41"} {
+		if u, ok := ascii.FromHex(s); u != 0 || ok {
+			t.Errorf("%q: %d, %v", s, u, ok)
+		}
+	}
+}
