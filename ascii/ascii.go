@@ -14,6 +14,16 @@ func Lower(s string) string {
 	return string(out)
 }
 
+// Within tells whether each byte of s is one from low to high.
+func Within(s string, low, high byte) bool {
+	for i := range len(s) {
+		if s[i] < low || s[i] > high {
+			return false
+		}
+	}
+	return true
+}
+
 // Hex is a byte as two hexadecimal digits.
 func Hex(c byte) string {
 	return string([]byte{digits[c>>4], digits[c&15]})

@@ -26,6 +26,24 @@ func TestLower(t *testing.T) {
 	}
 }
 
+func TestWithin(t *testing.T) {
+	for c := range 256 {
+		b := string([]byte{byte(c)})
+		want := '!' <= c && c <= '~'
+		for _, s := range []string{b, b + "!", "~" + b, "a" + b + "z"} {
+			if ascii.Within(s, '!', '~') != want {
+				t.Errorf("%q: not %v", s, want)
+			}
+		}
+		if !ascii.Within(b, 0, 255) || ascii.Within(b, 255, 0) {
+			t.Errorf("byte %d: all bytes, or none", c)
+		}
+	}
+	if !ascii.Within("", '!', '~') || !ascii.Within("", 255, 0) {
+		t.Error("each byte of nothing is one")
+	}
+}
+
 func TestHex(t *testing.T) {
 	const small = "0123456789abcdef"
 	for c := range 256 {
