@@ -24,6 +24,16 @@ func Within(s string, low, high byte) bool {
 	return true
 }
 
+// Control tells whether a byte of s is a control sign: one below 32, or a 127.
+func Control(s string) bool {
+	for i := range len(s) {
+		if s[i] < ' ' || s[i] == 0x7f {
+			return true
+		}
+	}
+	return false
+}
+
 // Hex is a byte as two hexadecimal digits.
 func Hex(c byte) string {
 	return string([]byte{digits[c>>4], digits[c&15]})

@@ -44,6 +44,21 @@ func TestWithin(t *testing.T) {
 	}
 }
 
+func TestControl(t *testing.T) {
+	for c := range 256 {
+		b := string([]byte{byte(c)})
+		want := c < 32 || c == 127
+		for _, s := range []string{b, b + " ", "~" + b, "a" + b + "\xff"} {
+			if ascii.Control(s) != want {
+				t.Errorf("%q: not %v", s, want)
+			}
+		}
+	}
+	if ascii.Control("") {
+		t.Error("nothing has none")
+	}
+}
+
 func TestHex(t *testing.T) {
 	const small = "0123456789abcdef"
 	for c := range 256 {
