@@ -14,6 +14,11 @@ func Lower(s string) string {
 	return string(out)
 }
 
+// Letter tells whether a byte is one of a to z or A to Z.
+func Letter(c byte) bool {
+	return 'a' <= c && c <= 'z' || 'A' <= c && c <= 'Z'
+}
+
 // Within tells whether each byte of s is one from low to high.
 func Within(s string, low, high byte) bool {
 	for i := range len(s) {

@@ -26,6 +26,15 @@ func TestLower(t *testing.T) {
 	}
 }
 
+func TestLetter(t *testing.T) {
+	const letters = "abcdefghijklmnopqrstuvwxyzABCDEFGHIJKLMNOPQRSTUVWXYZ"
+	for c := range 256 {
+		if ascii.Letter(byte(c)) != (strings.IndexByte(letters, byte(c)) >= 0) {
+			t.Errorf("byte %d: %v", c, ascii.Letter(byte(c)))
+		}
+	}
+}
+
 func TestWithin(t *testing.T) {
 	for c := range 256 {
 		b := string([]byte{byte(c)})
