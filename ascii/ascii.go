@@ -1,6 +1,8 @@
 // Package ascii has what several layers ask of single bytes. It is no layer itself.
 package ascii
 
+import "strings"
+
 const digits = "0123456789ABCDEF"
 
 // Lower puts a to z in the place of A to Z; unlike the library's own it touches no other sign, so that no foreign letter becomes one of a name.
@@ -17,6 +19,21 @@ func Lower(s string) string {
 // Letter tells whether a byte is one of a to z or A to Z.
 func Letter(c byte) bool {
 	return 'a' <= c && c <= 'z' || 'A' <= c && c <= 'Z'
+}
+
+// Plain tells whether a byte is a letter, a digit, or one of marks.
+func Plain(c byte, marks string) bool {
+	return Letter(c) || '0' <= c && c <= '9' || strings.IndexByte(marks, c) >= 0
+}
+
+// AllPlain tells whether each byte of s is so.
+func AllPlain(s, marks string) bool {
+	for i := range len(s) {
+		if !Plain(s[i], marks) {
+			return false
+		}
+	}
+	return true
 }
 
 // Within tells whether each byte of s is one from low to high.

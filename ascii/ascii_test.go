@@ -35,6 +35,27 @@ func TestLetter(t *testing.T) {
 	}
 }
 
+func TestPlain(t *testing.T) {
+	const plain = "abcdefghijklmnopqrstuvwxyzABCDEFGHIJKLMNOPQRSTUVWXYZ0123456789"
+	for _, marks := range []string{"", "-", "-._~", " #\x00\xff"} {
+		for c := range 256 {
+			b := string([]byte{byte(c)})
+			want := strings.Contains(plain+marks, b)
+			if ascii.Plain(byte(c), marks) != want {
+				t.Errorf("byte %d, marks %q: not %v", c, marks, want)
+			}
+			for _, s := range []string{b, b + "a", "Z" + b, "0" + b + "9"} {
+				if ascii.AllPlain(s, marks) != want {
+					t.Errorf("%q, marks %q: not %v", s, marks, want)
+				}
+			}
+		}
+		if !ascii.AllPlain("", marks) {
+			t.Errorf("marks %q: each byte of nothing is one", marks)
+		}
+	}
+}
+
 func TestWithin(t *testing.T) {
 	for c := range 256 {
 		b := string([]byte{byte(c)})
